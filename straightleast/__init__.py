@@ -1,0 +1,1 @@
+"""Tables of costs in which no crossing pays."""
