@@ -4,6 +4,8 @@ Sizes are asked ahead of entries, so that a wrong object is answered soon
 however many or however deep its entries are.
 """
 
+from straightleast.errors import BadIndex, BadNumber
+
 
 def is_integer(thing):
     """Whether thing is an int that is not a bool."""
@@ -20,6 +22,11 @@ def is_tuple_sized(thing, low, high):
     return isinstance(thing, tuple) and low <= len(thing) <= high
 
 
+def is_ascending(things):
+    """Whether each of these is less than the one behind it."""
+    return all([things[at - 1] < things[at] for at in range(1, len(things))])
+
+
 def are_integers(thing, count):
     """Whether thing is a tuple of just so many integers."""
     if not is_tuple_sized(thing, count, count):
@@ -27,10 +34,31 @@ def are_integers(thing, count):
     return all([is_integer(entry) for entry in thing])
 
 
+def are_integers_within(thing, low, high):
+    """Whether thing, a tuple or a list of few entries, has integers from low to high alone."""
+    return all([is_integer_within(entry, low, high) for entry in thing])
+
+
 def are_indexes(thing, count):
     """Whether thing is an ascending tuple of one or more indexes below count."""
     if not is_tuple_sized(thing, 1, count):
         return False
-    if not all([is_integer_within(entry, 0, count - 1) for entry in thing]):
-        return False
-    return all([thing[at - 1] < thing[at] for at in range(1, len(thing))])
+    return are_integers_within(thing, 0, count - 1) and is_ascending(thing)
+
+
+def check_index(thing, low, high):
+    """Raise BadIndex for what is no integer from low to high."""
+    if not is_integer_within(thing, low, high):
+        raise BadIndex("an index is an integer within the bounds of its table")
+
+
+def check_number(thing, low, high):
+    """Raise BadNumber for what is no integer from low to high."""
+    if not is_integer_within(thing, low, high):
+        raise BadNumber(f"the number is an integer from {low} to {high}")
+
+
+def check_integer(thing):
+    """Raise BadNumber for what is no integer at all."""
+    if not is_integer(thing):
+        raise BadNumber("the number is an integer")

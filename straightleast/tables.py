@@ -1,7 +1,7 @@
 """Tables of costs: which of them are straight, and tables made of tables."""
 
-from straightleast.checks import are_indexes, are_integers, is_integer_within, is_tuple_sized
-from straightleast.errors import BadIndexes, BadNumber, BadNumbers, BadSizes, BadTable
+from straightleast.checks import are_indexes, are_integers, check_number, is_tuple_sized
+from straightleast.errors import BadIndexes, BadNumbers, BadSizes, BadSquare, BadTable, NotStraight
 
 MOST_ROWS = 8
 MOST_COLUMNS = 8
@@ -24,6 +24,19 @@ def check_table(thing):
         raise BadTable("a table is a tuple of one to eight tuples of as many integers, one to eight")
 
 
+def check_straight(thing):
+    """Raise BadTable for what is no table, NotStraight for one in which a crossing pays."""
+    if not is_straight(thing):
+        raise NotStraight("in the table some crossing costs less than the straight pairing")
+
+
+def check_square(thing, fewest=1):
+    """Raise BadTable for what is no table, BadSquare for one that is not square or has fewer places."""
+    check_table(thing)
+    if len(thing) != len(thing[0]) or len(thing) < fewest:
+        raise BadSquare("the table has as many columns as rows, and as many places as are wanted")
+
+
 def is_straight(table):
     """Whether no crossing of two rows and two columns of the table pays."""
     # If none pays between neighbours, none pays at all: the gain of any
@@ -36,7 +49,7 @@ def first_crossing(table):
     check_table(table)
     for row in range(len(table) - 1):
         for column in range(len(table[0]) - 1):
-            if crossing_pays(table, row, row + 1, column, column + 1):
+            if crossing_gain(table, row, row + 1, column, column + 1) < 0:
                 return (row, column)
     return None
 
@@ -52,15 +65,15 @@ def count_crossings(table):
         for other in range(row + 1, height)
         for column in range(width)
         for last in range(column + 1, width)
-        if crossing_pays(table, row, other, column, last)
+        if crossing_gain(table, row, other, column, last) < 0
     ])
 
 
-def crossing_pays(table, row, other, column, last):
-    """Whether the straight sum of these two rows and columns is the greater one."""
+def crossing_gain(table, row, other, column, last):
+    """The crossing sum of these two rows and columns less the straight one."""
     straight = table[row][column] + table[other][last]
     crossing = table[row][last] + table[other][column]
-    return straight > crossing
+    return crossing - straight
 
 
 def lifted(table, rows, columns):
@@ -95,8 +108,7 @@ def added(table, other):
 def scaled(table, times):
     """The table with all entries multiplied."""
     check_table(table)
-    if not is_integer_within(times, 0, MOST_TIMES):
-        raise BadNumber("a table is multiplied by an integer from 0 to 10 ** 9")
+    check_number(times, 0, MOST_TIMES)
     return tuple([tuple([entry * times for entry in row]) for row in table])
 
 

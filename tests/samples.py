@@ -161,11 +161,52 @@ def wrong_indexes(count):
     return wrong
 
 
-def wrong_times():
-    """Objects that are no integers from 0 to 10 ** 9."""
-    return odd_objects() + deep_objects() + [
-        -1, -2, 10 ** 9 + 1, 10 ** 9 + 2, -10 ** 9, 2 ** 64, GREAT, -GREAT, 10 ** 100, (0,), (1,), [1],
-    ]
+def wrong_integers():
+    """Objects that are no integers."""
+    return odd_objects() + deep_objects() + [(0,), (1,), [1], {1: 1}, "1", "-1", b"1", (True,)]
+
+
+def wrong_integers_within(low, high):
+    """Objects that are no integers from low to high."""
+    beyond = [low - 1, low - 2, high + 1, high + 2, 2 ** 64, -2 ** 64, GREAT, -GREAT, 10 ** 100, -10 ** 100]
+    return wrong_integers() + [number for number in beyond if not low <= number <= high]
+
+
+def tables_that_are_not_straight():
+    """Small and great ones, among them such as are wrong by one crossing alone."""
+    source = chance(100)
+    found = [((0, 0), (0, 1)), ((0, 1, 1), (1, 0, 5)), with_entry(((0,) * 8,) * 8, 7, 7, 1), Q[::-1]]
+    while len(found) < 40:
+        table = any_table(source, source.randint(2, 8), source.randint(2, 8))
+        if not straight_by_all_pairs(table):
+            found.append(table)
+    return found
+
+
+def tables_that_are_not_square():
+    """Straight ones and others, of every size but the square ones."""
+    source = chance(101)
+    sizes = [(height, width) for height, width in SIZES if height != width]
+    return [any_table(source, *size) for size in sizes] + [straight_table(source, *size) for size in sizes]
+
+
+def square_tables(seed, most=8, fewest=1):
+    """Straight ones, nearly straight ones and others, several of each size."""
+    source = chance(seed)
+    found = []
+    for count in range(fewest, most + 1):
+        for _ in range(3):
+            straight = straight_table(source, count, count)
+            row, column = source.randrange(count), source.randrange(count)
+            found += [straight, straight_table(source, count, count, 2), any_table(source, count, count, 2)]
+            found += [any_table(source, count, count), any_table(source, count, count, 10 ** 27)]
+            found.append(with_entry(straight, row, column, straight[row][column] + source.choice((-1, 1))))
+        found.append(((7,) * count,) * count)
+    return found
+
+
+def straight_squares(seed, most=8, fewest=1):
+    return [table for table in square_tables(seed, most, fewest) if straight_by_all_pairs(table)]
 
 
 @contextlib.contextmanager
@@ -183,3 +224,25 @@ def kinds(value):
     if isinstance(value, (tuple, list)):
         return (type(value), [kinds(part) for part in value])
     return (type(value), value)
+
+
+def spoiled(value):
+    """The value with one part, or the whole, exchanged for an object of another kind."""
+    if isinstance(value, (tuple, list)):
+        other = list if isinstance(value, tuple) else tuple
+        found = [other(value), None, True, "", {}, dict(enumerate(value)), str(value), len(value)]
+        for at, part in enumerate(value):
+            for wrong in spoiled(part):
+                found.append(type(value)((*value[:at], wrong, *value[at + 1:])))
+        return found
+    return [True, False, None, str(value), "", {}, {value: value}, (value,), [value], (), []]
+
+
+def lists_in(value):
+    """All lists in the value, the value too, each as often as it stands there."""
+    if not isinstance(value, (tuple, list)):
+        return []
+    found = [value] if isinstance(value, list) else []
+    for part in value:
+        found += lists_in(part)
+    return found

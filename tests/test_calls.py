@@ -1,53 +1,68 @@
 """Point 2, as it holds of every function: names, kinds, errors in their order, nothing changed."""
 
 import copy
+import importlib
 import inspect
+import itertools
 import unittest
 
 from straightleast import tables, texts
-from straightleast.errors import BadIndexes, BadNumber, BadNumbers, BadRows, BadSizes, BadTable, LeastError
+from straightleast.errors import (
+    BadIndexes, BadNumber, BadNumbers, BadSizes, BadSquare, BadTable, LeastError, NotStraight,
+)
 
-from tests.samples import Q, doubled, doubled_dict, kinds, odd_objects, soon, wrong_tables
+from tests.calls import CALLS, TABLE
+from tests.samples import (
+    Q, deep_objects, doubled, doubled_dict, kinds, lists_in, odd_objects, soon, straight_by_all_pairs,
+    tables_that_are_not_square, tables_that_are_not_straight, wrong_tables,
+)
 
-TABLE = ((4, 1, 7), (2, 2, 0))
-
-# The function, the names of its parameters, right arguments and what is returned.
-CALLS = [
-    (tables.is_table, ["thing"], (TABLE,), True),
-    (tables.is_straight, ["table"], (TABLE,), False),
-    (tables.first_crossing, ["table"], (TABLE,), (0, 0)),
-    (tables.count_crossings, ["table"], (TABLE,), 1),
-    (tables.lifted, ["table", "rows", "columns"], (TABLE, (10, 20), (1, 2, 3)), ((15, 13, 20), (23, 24, 23))),
-    (tables.added, ["table", "other"], (TABLE, ((1, 1, 1), (0, 0, 5))), ((5, 2, 8), (2, 2, 5))),
-    (tables.scaled, ["table", "times"], (TABLE, 3), ((12, 3, 21), (6, 6, 0))),
-    (tables.turned, ["table"], (TABLE,), ((4, 2), (1, 2), (7, 0))),
-    (tables.thinned, ["table", "rows", "columns"], (TABLE, (1,), (0, 2)), ((2, 0),)),
-    (tables.mirrored, ["table"], (TABLE,), ((2, 2, 0), (4, 1, 7))),
-    (tables.is_crooked, ["table"], (TABLE,), False),
-    (tables.reduced, ["table"], (TABLE,), (((1, 0, 6), (0, 2, 0)), (1, 0), (2, 0, 0))),
-    (texts.write_table, ["table"], (TABLE,), "4 1 7\n2 2 0"),
-    (texts.read_table, ["text"], ("4 1 7\n2 2 0",), TABLE),
-]
-
-# The error of an argument that is right in no call, for each function and parameter.
-ERRORS = {
-    "lifted": [BadTable, BadNumbers, BadNumbers],
-    "added": [BadTable, BadTable],
-    "scaled": [BadTable, BadNumber],
-    "thinned": [BadTable, BadIndexes, BadIndexes],
-    "read_table": [BadRows],
+# The functions and their parameters, as the interface of the document lists them.
+INTERFACE = {
+    "tables": """
+        is_table(thing) is_straight(table) first_crossing(table) count_crossings(table)
+        lifted(table,rows,columns) added(table,other) scaled(table,times) turned(table)
+        thinned(table,rows,columns) mirrored(table) is_crooked(table) reduced(table)
+    """,
+    "texts": "write_table(table) read_table(text)",
+    "parts": "parts(table) built(told) gain(table,row,other,column,last) rooms(table) changed(table,row,column,number)",
+    "least": """
+        firsts(table) lasts(table) least_entries(table) least_in(table,row,column,end)
+        least_of_stretch(table,row,stop,column,end) looks(table) count_looks(table)
+    """,
+    "products": """
+        product(table,other) middles(table,other) last_middles(table,other) product_of(tables)
+        chain_way(tables,row,column) power(table,count) way(table,place,other,count) way_cost(table,way)
+        least_round(table)
+    """,
 }
 
+# Few objects of every kind that stand behind an argument that is wrong itself.
+BEHIND = [None, True, -1, 0, (), [], {}, "", 10 ** 100, Q, doubled((), tuple)]
 
-def errors_of(function):
-    return ERRORS.get(function.__name__, [BadTable])
+
+def swapped(call, at, thing):
+    return call.told[:at] + (thing,) + call.told[at + 1:]
 
 
-class CallsTest(unittest.TestCase):
+def judged(call, at):
+    """Whether the argument is any object that is judged."""
+    return all(error is None for error, _ in call.faults[at])
+
+
+class InterfaceTest(unittest.TestCase):
+    def test_each_function_with_its_names_is_called_here(self):
+        listed = set()
+        for module, text in INTERFACE.items():
+            for told in text.split():
+                name, names = told.rstrip(")").split("(")
+                listed.add((f"straightleast.{module}", name, tuple(names.split(","))))
+        called = {(call.function.__module__, call.function.__name__, tuple(call.names)) for call in CALLS}
+        self.assertEqual(called, listed)
+
     def test_each_is_defined_in_its_file_with_the_names_of_the_interface(self):
-        for function, names, _, _ in CALLS:
-            module = tables if function.__module__ == "straightleast.tables" else texts
-            self.assertEqual(function.__module__, module.__name__)
+        for function, names, *_ in CALLS:
+            module = importlib.import_module(function.__module__)
             self.assertIs(getattr(module, function.__name__), function)
             parameters = inspect.signature(function).parameters
             self.assertEqual(list(parameters), names)
@@ -55,8 +70,10 @@ class CallsTest(unittest.TestCase):
                 self.assertIs(parameter.default, inspect.Parameter.empty)
                 self.assertIs(parameter.kind, inspect.Parameter.POSITIONAL_OR_KEYWORD)
 
+
+class CallsTest(unittest.TestCase):
     def test_by_position_and_by_name(self):
-        for function, names, told, wanted in CALLS:
+        for function, names, told, wanted, _ in CALLS:
             self.assertEqual(kinds(function(*told)), kinds(wanted), function)
             by_name = dict(zip(names, told))
             self.assertEqual(kinds(function(**by_name)), kinds(wanted), function)
@@ -67,9 +84,9 @@ class CallsTest(unittest.TestCase):
                 self.assertEqual(kinds(function(*told[:split], **rest)), kinds(wanted), function)
 
     def test_equal_calls_return_equal_results(self):
-        for function, _, told, wanted in CALLS:
+        for function, _, told, wanted, _ in CALLS:
             for _ in range(3):
-                self.assertEqual(function(*copy.deepcopy(told)), wanted)
+                self.assertEqual(kinds(function(*copy.deepcopy(told))), kinds(wanted))
 
     def test_true_results_are_true_and_false(self):
         self.assertIs(tables.is_table(Q), True)
@@ -91,50 +108,81 @@ class CallsTest(unittest.TestCase):
             self.assertRaises(BadIndexes, tables.thinned, TABLE, (entry,), (0,))
             self.assertRaises(BadIndexes, tables.thinned, TABLE, (0,), (entry,))
 
-    def test_lists_stand_for_no_tuples(self):
-        self.assertRaises(BadNumbers, tables.lifted, TABLE, [0, 0], (0, 0, 0))
-        self.assertRaises(BadNumbers, tables.lifted, TABLE, (0, 0), [0, 0, 0])
-        self.assertRaises(BadIndexes, tables.thinned, TABLE, [0], (0,))
-        self.assertRaises(BadIndexes, tables.thinned, TABLE, (0,), [0])
-        for function, names, told, _ in CALLS:
-            if names[0] == "table":
-                for thing in (list(TABLE), [list(row) for row in TABLE], tuple(list(row) for row in TABLE)):
-                    self.assertRaises(BadTable, function, thing, *told[1:])
-
 
 class ErrorsTest(unittest.TestCase):
+    def raises(self, error, call, told):
+        # What was told is not shown: written out it may be endless.
+        with self.assertRaises(LeastError, msg=call.function) as caught:
+            call.function(*told)
+        self.assertIs(type(caught.exception), error, call.function)
+
+    def test_each_fault_of_each_argument(self):
+        for call in CALLS:
+            for at, faults in enumerate(call.faults):
+                for error, thing in faults:
+                    told = swapped(call, at, thing)
+                    if error is None:
+                        self.assertIs(call.function(*told), False, call.function)
+                    else:
+                        self.raises(error, call, told)
+
+    def test_odd_and_deep_objects_in_each_argument(self):
+        with soon():
+            wrong = odd_objects() + deep_objects()
+            for call in CALLS:
+                for at in range(len(call.told)):
+                    error = call.faults[at][0][0]
+                    for thing in wrong:
+                        if is_right_somewhere(call.names[at], thing):
+                            continue
+                        if error is None:
+                            self.assertIs(call.function(*swapped(call, at, thing)), False)
+                        else:
+                            with self.assertRaises(error):
+                                call.function(*swapped(call, at, thing))
+
+    def test_shared_parts_at_every_depth(self):
+        with soon():
+            for call in CALLS:
+                for at, right in enumerate(call.told):
+                    for part in (doubled((), tuple), doubled([], list), doubled(0, tuple), doubled_dict()):
+                        for thing in with_part_exchanged(right, part):
+                            if judged(call, at):
+                                self.assertIs(call.function(*swapped(call, at, thing)), False)
+                            else:
+                                self.raises(call.faults[at][0][0], call, swapped(call, at, thing))
+
+    def test_of_several_wrong_arguments_the_first(self):
+        for call in CALLS:
+            for at, faults in enumerate(call.faults):
+                for error, thing in faults[::5] + faults[-3:]:
+                    if error is not None and at + 1 < len(call.told):
+                        for behind in BEHIND:
+                            rest = (behind,) * (len(call.told) - at - 1)
+                            self.raises(error, call, call.told[:at] + (thing,) + rest)
+                        wrong = [[one[1] for one in more[-3:]] for more in call.faults[at + 1:]]
+                        for rest in itertools.product(*wrong):
+                            self.raises(error, call, call.told[:at] + (thing,) + rest)
+
     def test_a_wrong_table_in_each_place(self):
         with soon():
             wrong = wrong_tables()
-            for function, names, told, _ in CALLS:
-                for at, name in enumerate(names):
-                    if name in ("table", "other"):
+            for call in CALLS:
+                for at, name in enumerate(call.names):
+                    if call.faults[at][0][0] is BadTable:
                         for thing in wrong:
                             with self.assertRaises(BadTable):
-                                function(*told[:at], thing, *told[at + 1:])
+                                call.function(*swapped(call, at, thing))
 
-    def test_each_wrong_argument_has_its_error(self):
-        with soon():
-            for function, names, told, _ in CALLS[1:]:
-                for at, error in enumerate(errors_of(function)):
-                    for thing in self.wrong_for(names[at]):
-                        with self.assertRaises(error) as caught:
-                            function(*told[:at], thing, *told[at + 1:])
-                        self.assertIs(type(caught.exception), error)
-
-    def test_of_several_wrong_arguments_the_first(self):
-        with soon():
-            for function, names, told, _ in CALLS[1:]:
-                for at, error in enumerate(errors_of(function)):
-                    for thing in self.wrong_for(names[at])[::3]:
-                        for behind in (None, True, -1, (), [], doubled((), tuple)):
-                            rest = (behind,) * (len(names) - at - 1)
-                            with self.assertRaises(error):
-                                function(*told[:at], thing, *rest)
-
-    def wrong_for(self, name):
-        wrong = odd_objects() + [doubled((), tuple), doubled([], list), doubled_dict()]
-        return [thing for thing in wrong if not (name == "text" and isinstance(thing, str))]
+    def test_tables_that_are_not_straight_or_not_square(self):
+        wrong = tables_that_are_not_straight() + tables_that_are_not_square()
+        for call in CALLS:
+            wanted = {error for error, _ in call.faults[0]}
+            for thing in wrong:
+                error = first_fault_of_table(thing, wanted)
+                if error is not None:
+                    self.raises(error, call, swapped(call, 0, thing))
+                    self.raises(error, call, (thing,) + (None,) * (len(call.told) - 1))
 
     def test_sizes_come_behind_the_kind_of_the_table(self):
         self.assertRaises(BadTable, tables.added, None, ((0,),))
@@ -143,31 +191,71 @@ class ErrorsTest(unittest.TestCase):
         self.assertRaises(BadSizes, tables.added, TABLE, ((0,),))
 
     def test_every_error_is_one_of_the_package(self):
-        for function, names, told, _ in CALLS[1:]:
-            for thing in self.wrong_for(names[0]):
-                with self.assertRaises(LeastError):
-                    function(thing, *told[1:])
-                with self.assertRaises(ValueError):
-                    function(thing, *told[1:])
+        for call in CALLS:
+            for error, thing in call.faults[0]:
+                if error is not None:
+                    for kind in (LeastError, ValueError):
+                        with self.assertRaises(kind):
+                            call.function(*swapped(call, 0, thing))
+
+
+def is_right_somewhere(name, thing):
+    """The odd objects that are a text, or a chain of one table, and so are right for these names."""
+    return name == "text" and isinstance(thing, str) or name == "tables" and thing == (((0,),),)
+
+
+def first_fault_of_table(thing, wanted):
+    """The error of this table if a square one, or a straight one, is wanted."""
+    if BadSquare in wanted and len(thing) != len(thing[0]):
+        return BadSquare
+    if NotStraight in wanted and not straight_by_all_pairs(thing):
+        return NotStraight
+    return None
+
+
+def with_part_exchanged(value, part):
+    """The value with one of its parts exchanged, at each depth."""
+    if isinstance(value, (tuple, list)):
+        for at, inner in enumerate(value):
+            for other in [part, *with_part_exchanged(inner, part)]:
+                yield type(value)((*value[:at], other, *value[at + 1:]))
 
 
 class NothingChangedTest(unittest.TestCase):
     def test_what_was_handed_in_stays_as_it_was(self):
         for thing in odd_objects() + [[[3, 1], [2, 0]], [(3, 1), (2, 0)], {"a": [2, 1]}]:
             before = copy.deepcopy(thing)
-            for function, names, told, _ in CALLS:
-                for at in range(len(names)):
+            for call in CALLS:
+                for at in range(len(call.told)):
                     try:
-                        function(*told[:at], thing, *told[at + 1:])
+                        call.function(*swapped(call, at, thing))
                     except LeastError:
                         pass
                     self.assertEqual(kinds(thing), kinds(before))
 
     def test_right_arguments_too(self):
-        for function, _, told, _ in CALLS:
-            before = copy.deepcopy(told)
-            function(*told)
-            self.assertEqual(kinds(told), kinds(before))
+        for call in CALLS:
+            before = copy.deepcopy(call.told)
+            call.function(*call.told)
+            self.assertEqual(kinds(call.told), kinds(before))
+
+    def test_each_list_is_new_and_stands_in_one_place(self):
+        for call in CALLS:
+            found = [call.function(*call.told) for _ in range(3)] + list(call.told)
+            lists = lists_in(found)[1:]
+            self.assertEqual(len({id(one) for one in lists}), len(lists), call.function)
+
+    def test_a_list_that_the_caller_changes_changes_no_later_answer(self):
+        for call in CALLS:
+            told = copy.deepcopy(call.told)
+            for one in lists_in(call.function(*told)):
+                one.append(99)
+                one.reverse()
+            self.assertEqual(kinds(told), kinds(call.told))
+            self.assertEqual(kinds(call.function(*told)), kinds(call.wanted))
+            for one in lists_in(told):
+                one.clear()
+            self.assertEqual(kinds(call.function(*call.told)), kinds(call.wanted))
 
     def test_what_is_returned_is_new(self):
         source = ((5, 3), (1, 4))

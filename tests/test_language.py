@@ -74,6 +74,44 @@ class LanguageTest(unittest.TestCase):
                 if isinstance(node, ast.Constant):
                     self.assertNotIsInstance(node.value, (float, complex), (path, node.lineno))
 
+    def test_generators_strings_and_sorting(self):
+        for path, tree in trees():
+            for node in ast.walk(tree):
+                self.assertNotIsInstance(node, (ast.GeneratorExp, ast.Import, ast.AnnAssign), path)
+                if isinstance(node, ast.Constant) and isinstance(node.value, str):
+                    self.assertNotIn("%", node.value, (path, node.lineno))
+                if isinstance(node, ast.Attribute):
+                    self.assertNotIn(node.attr, ("sort", "format", "mro", "args"), (path, node.lineno))
+
+    def test_no_name_stands_for_an_import_or_a_class_too(self):
+        for path, tree in trees():
+            taken = {name.name for node in ast.walk(tree) if isinstance(node, ast.ImportFrom) for name in node.names}
+            taken |= {node.name for node in ast.walk(tree) if isinstance(node, ast.ClassDef)}
+            for node in ast.walk(tree):
+                if isinstance(node, ast.Name) and isinstance(node.ctx, ast.Store):
+                    self.assertNotIn(node.id, taken, (path, node.lineno))
+                if isinstance(node, ast.arg):
+                    self.assertNotIn(node.arg, taken, (path, node.lineno))
+
+    def test_every_import_names_the_file_that_defines_the_name(self):
+        defined = {}
+        for path, tree in trees():
+            for node in tree.body:
+                names = [node.name] if isinstance(node, (ast.FunctionDef, ast.ClassDef)) else []
+                if isinstance(node, ast.Assign):
+                    names = [target.id for target in node.targets]
+                for name in names:
+                    self.assertNotIn((path.stem, name), defined)
+                    defined[path.stem, name] = True
+        for path, tree in trees():
+            used = {node.id for node in ast.walk(tree) if isinstance(node, ast.Name)}
+            for node in ast.walk(tree):
+                if isinstance(node, ast.ImportFrom):
+                    for name in node.names:
+                        self.assertIn(name.name, used, path)
+                        if node.module not in LIBRARY:
+                            self.assertIn((node.module.split(".")[1], name.name), defined, path)
+
 
 if __name__ == "__main__":
     unittest.main()

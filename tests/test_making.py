@@ -10,7 +10,7 @@ from straightleast.tables import (
 
 from tests.samples import (
     GREAT, Q, SIZES, any_table, chance, kinds, sample_tables, soon, straight_by_all_pairs, straight_table,
-    with_entry, wrong_indexes, wrong_numbers, wrong_tables, wrong_times,
+    with_entry, wrong_indexes, wrong_integers_within, wrong_numbers, wrong_tables,
 )
 
 
@@ -144,7 +144,7 @@ class ScaledTest(TableTest):
                 for times in (1, -1, None):
                     with self.assertRaises(BadTable):
                         scaled(thing, times)
-            for thing in wrong_times():
+            for thing in wrong_integers_within(0, 10 ** 9):
                 with self.assertRaises(BadNumber):
                     scaled(Q, thing)
 
