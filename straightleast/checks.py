@@ -46,6 +46,13 @@ def are_indexes(thing, count):
     return are_integers_within(thing, 0, count - 1) and is_ascending(thing)
 
 
+def is_sequence_of_all(thing, count):
+    """Whether thing is a tuple of 0 to count - 1 in some sequence."""
+    if not is_tuple_sized(thing, count, count):
+        return False
+    return are_integers_within(thing, 0, count - 1) and len(set(thing)) == count
+
+
 def check_index(thing, low, high):
     """Raise BadIndex for what is no integer from low to high."""
     if not is_integer_within(thing, low, high):

@@ -37,6 +37,12 @@ def check_square(thing, fewest=1):
         raise BadSquare("the table has as many columns as rows, and as many places as are wanted")
 
 
+def check_straight_square(thing, fewest=1):
+    """Raise BadTable, BadSquare or NotStraight, in this sequence, for what is no straight square table."""
+    check_square(thing, fewest)
+    check_straight(thing)
+
+
 def is_straight(table):
     """Whether no crossing of two rows and two columns of the table pays."""
     # If none pays between neighbours, none pays at all: the gain of any

@@ -2,10 +2,10 @@
 
 import collections
 
-from straightleast import least, parts, products, tables, texts
+from straightleast import climbs, fillings, least, pairings, parts, products, tables, texts, tours
 from straightleast.errors import (
-    BadChain, BadIndex, BadIndexes, BadNumber, BadNumbers, BadParts, BadRows, BadSizes, BadSquare, BadTable, BadWay,
-    NotStraight,
+    BadChain, BadClimb, BadFilling, BadIndex, BadIndexes, BadNumber, BadNumbers, BadPairing, BadParts, BadRows,
+    BadSizes, BadSquare, BadStocks, BadTable, BadTour, BadWay, BadWishes, NotStraight, TooMany,
 )
 
 from tests.samples import Q, spoiled
@@ -19,6 +19,10 @@ SQUARE = ((3, 5), (4, 1))
 CROSSED = ((0, 0), (0, 1))
 STRAIGHT = ((0, 2, 5), (1, 1, 3))
 LEFT_OVER = ((0, 1), (2, 3), (4, 9))
+TALL_STRAIGHT = ((0, 1), (2, 3), (4, 4))
+ANY_OF_THREE = ((1, 4, 2), (3, 0, 5), (2, 6, 1))
+ALONE = (BadSquare, ((5,),))
+PAIRED = ((0, 3, 6), (2, 1, 3), (7, 5, 2))
 
 
 def call(function, wanted, **arguments):
@@ -42,6 +46,31 @@ def straight(right=STRAIGHT):
 
 def square(right=SQUARE):
     return arg(right, BadTable, (BadTable, (right[0],) * 9), (BadSquare, TABLE), (BadSquare, LEFT_OVER))
+
+
+def squared(*more):
+    """A straight square table, with what else is wrong of it."""
+    faults = [(BadTable, (PAIRED[0],) * 9), (BadSquare, TALL_STRAIGHT), (BadSquare, LEFT_OVER)]
+    return arg(PAIRED, BadTable, *faults, (NotStraight, CROSSED), *more)
+
+
+def places():
+    """A square table of two places or more, straight or not."""
+    faults = [(BadTable, (ANY_OF_THREE[0],) * 9), (BadSquare, TALL_STRAIGHT), (BadSquare, LEFT_OVER), ALONE]
+    return arg(ANY_OF_THREE, BadTable, *faults)
+
+
+def pairing(right):
+    return arg(right, BadPairing, (BadPairing, (0, 1)), (BadPairing, (0, 1, 1)), (BadPairing, (0, 1, FAR)))
+
+
+def tour(right):
+    return arg(right, BadTour, (BadTour, (0, 1)), (BadTour, (1, 0, 2)), (BadTour, (0, 1, 1)), (BadTour, (0, 1, FAR)))
+
+
+def judged(right, *more):
+    """Any object: what is near to the right one is no such paper."""
+    return arg(right, None, *[(None, wrong) for wrong in more])
 
 
 def index(right, low, high, error=BadIndex):
@@ -143,4 +172,52 @@ STAGE_2 = [
     call(products.least_round, (1, 1), table=square()),
 ]
 
-CALLS = STAGE_1 + STAGE_2
+GIVEN = [(0, 0, 2), (0, 1, 1), (1, 1, 4)]
+STOCKS = arg((3, 4), BadStocks, (BadStocks, (3,)), (BadStocks, (-1, 8)), (BadStocks, (FAR, 1)))
+WISHES = arg((2, 5, 0), BadWishes, (BadWishes, (2, 5)), (BadWishes, (2, 4, 0)), (BadWishes, (-1, 8, 0)))
+
+STAGE_3 = [
+    call(pairings.pairing_cost, 11, table=square(ANY_OF_THREE), pairing=pairing((2, 0, 1))),
+    call(pairings.count_least_pairings, 1, table=squared()),
+    call(pairings.uncrossings, [(1, 2)], table=squared(), pairing=pairing((0, 2, 1))),
+    call(
+        pairings.uncrossings_hold, True, table=squared(), pairing=pairing((0, 2, 1)),
+        thing=judged([(1, 2)], [], [(2, 1)], [(1, 2), (1, 2)], [(1, FAR)]),
+    ),
+    call(pairings.best_pairs, (1, (0, 1), (0, 1)), table=straight(), count=number(2, 0, 2)),
+    call(pairings.pair_sums, [0, 0, 1], table=straight()),
+    call(pairings.pairs_at_price, (2, -3), table=straight(), price=arg(2, BadNumber)),
+    call(pairings.pair_prices, [0, 1], table=straight()),
+    call(fillings.corner_filling, GIVEN, table=table(), stocks=STOCKS, wishes=WISHES),
+    call(
+        fillings.filling_holds, True, table=table(), stocks=STOCKS, wishes=WISHES,
+        thing=judged(GIVEN, [], GIVEN[:2], GIVEN[::-1], GIVEN * 2),
+    ),
+    call(
+        fillings.filling_cost, 17, table=table(), stocks=STOCKS, wishes=WISHES,
+        filling=arg(GIVEN, BadFilling, (BadFilling, []), (BadFilling, GIVEN[1:])),
+    ),
+    call(fillings.prices, ((1, 0), (-1, 1, -1)), table=straight(), stocks=STOCKS, wishes=WISHES),
+    call(
+        fillings.prices_hold, True, table=straight(), stocks=STOCKS, wishes=WISHES,
+        thing=judged(((0, -1), (0, 2, 4)), ((0, 0), (0, 2, 4)), ((0, -1), (0, 2)), ((FAR, -1), (0, 2, 4))),
+    ),
+    call(tours.tour_cost, 11, table=places(), tour=tour((0, 2, 1))),
+    call(tours.is_up_and_down, True, table=places(), tour=tour((0, 2, 1))),
+    call(tours.up_and_down_tours, [(0, 1, 2, 3), (0, 1, 3, 2), (0, 2, 3, 1), (0, 3, 2, 1)], count=number(4, 2, 8)),
+    call(tours.best_tour, (13, (0, 1, 2)), table=squared(ALONE)),
+    call(tours.best_through, 6, table=squared(ALONE)),
+    call(tours.tours_of_cost, 2, table=squared(ALONE, (TooMany, ((0,) * 8,) * 8))),
+    call(
+        climbs.climb_cost, 2, table=places(),
+        climb=arg((0, 2), BadClimb, (BadClimb, (0, 1)), (BadClimb, (0, 2, 1)), (BadClimb, (0, FAR))),
+    ),
+    call(climbs.best_climb, (9, (0, 1, 2)), table=places(), count=number(2, 1, 2)),
+    call(climbs.climb_sums, [2, 9], table=places()),
+    call(climbs.last_steps, (None, 0, 0), table=places(), count=number(1, 1, 2)),
+    call(climbs.best_of_all, (2, (0, 2)), table=places()),
+    call(climbs.climbs_at_price, (1, 7), table=places(), price=arg(5, BadNumber)),
+    call(climbs.climb_prices, [0], table=squared(ALONE)),
+]
+
+CALLS = STAGE_1 + STAGE_2 + STAGE_3

@@ -1,9 +1,10 @@
-"""Objects that several tests use: tables, wrong objects, and a watch."""
+"""What several tests use: tables, wrong objects, a watch, and a test that tells kinds apart."""
 
 import contextlib
 import faulthandler
 import itertools
 import random
+import unittest
 
 Q = ((0, 1, 4, 9), (1, 0, 1, 4), (4, 1, 0, 1), (9, 4, 1, 0))
 
@@ -246,3 +247,9 @@ def lists_in(value):
     for part in value:
         found += lists_in(part)
     return found
+
+
+class SameTest(unittest.TestCase):
+    def same(self, found, wanted):
+        """Alike, and of the same kinds at every depth."""
+        self.assertEqual(kinds(found), kinds(wanted))

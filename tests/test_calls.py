@@ -35,6 +35,23 @@ INTERFACE = {
         chain_way(tables,row,column) power(table,count) way(table,place,other,count) way_cost(table,way)
         least_round(table)
     """,
+    "pairings": """
+        pairing_cost(table,pairing) count_least_pairings(table) uncrossings(table,pairing)
+        uncrossings_hold(table,pairing,thing) best_pairs(table,count) pair_sums(table) pairs_at_price(table,price)
+        pair_prices(table)
+    """,
+    "fillings": """
+        corner_filling(table,stocks,wishes) filling_holds(table,stocks,wishes,thing)
+        filling_cost(table,stocks,wishes,filling) prices(table,stocks,wishes) prices_hold(table,stocks,wishes,thing)
+    """,
+    "tours": """
+        tour_cost(table,tour) is_up_and_down(table,tour) up_and_down_tours(count) best_tour(table)
+        best_through(table) tours_of_cost(table)
+    """,
+    "climbs": """
+        climb_cost(table,climb) best_climb(table,count) climb_sums(table) last_steps(table,count)
+        best_of_all(table) climbs_at_price(table,price) climb_prices(table)
+    """,
 }
 
 # Few objects of every kind that stand behind an argument that is wrong itself.

@@ -7,15 +7,9 @@ from straightleast.errors import BadIndex, BadTable, NotStraight
 from straightleast.least import count_looks, firsts, lasts, least_entries, least_in, least_of_stretch, looks
 
 from tests.samples import (
-    GREAT, Q, SIZES, any_table, chance, deep_objects, kinds, odd_objects, sample_tables, soon, straight_by_all_pairs,
-    straight_table, tables_that_are_not_straight, wrong_integers_within,
+    GREAT, Q, SIZES, SameTest, any_table, chance, deep_objects, odd_objects, sample_tables, soon,
+    straight_by_all_pairs, straight_table, tables_that_are_not_straight, wrong_integers_within,
 )
-
-
-class SameTest(unittest.TestCase):
-    def same(self, found, wanted):
-        """Alike, and of the same kinds at every depth."""
-        self.assertEqual(kinds(found), kinds(wanted))
 
 
 def least_places(row):

@@ -9,16 +9,12 @@ from straightleast.tables import (
 )
 
 from tests.samples import (
-    GREAT, Q, SIZES, any_table, chance, kinds, sample_tables, soon, straight_by_all_pairs, straight_table,
+    GREAT, Q, SIZES, SameTest, any_table, chance, sample_tables, soon, straight_by_all_pairs, straight_table,
     with_entry, wrong_indexes, wrong_integers_within, wrong_numbers, wrong_tables,
 )
 
 
-class TableTest(unittest.TestCase):
-    def same(self, found, wanted):
-        """Alike, and of the same kinds at every depth."""
-        self.assertEqual(kinds(found), kinds(wanted))
-
+class TableTest(SameTest):
     def straight(self, table):
         self.assertTrue(straight_by_all_pairs(table), table)
 

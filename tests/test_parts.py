@@ -8,17 +8,12 @@ from straightleast.parts import built, changed, gain, parts, rooms
 from straightleast.tables import is_straight
 
 from tests.samples import (
-    GREAT, Q, SIZES, any_table, chance, deep_objects, kinds, odd_objects, sample_tables, soon, straight_by_all_pairs,
-    straight_table, tables_that_are_not_straight, with_entry, wrong_integers, wrong_integers_within,
+    GREAT, Q, SIZES, SameTest, any_table, chance, deep_objects, odd_objects, sample_tables, soon,
+    straight_by_all_pairs, straight_table, tables_that_are_not_straight, with_entry, wrong_integers,
+    wrong_integers_within,
 )
 
 SMALL = 10 ** 29 - 1
-
-
-class SameTest(unittest.TestCase):
-    def same(self, found, wanted):
-        """Alike, and of the same kinds at every depth."""
-        self.assertEqual(kinds(found), kinds(wanted))
 
 
 def any_parts(source, height, width, bound):

@@ -10,15 +10,9 @@ from straightleast.products import (
 )
 
 from tests.samples import (
-    GREAT, Q, SIZES, any_table, chance, deep_objects, kinds, odd_objects, small_tables, soon, square_tables,
+    GREAT, Q, SIZES, SameTest, any_table, chance, deep_objects, odd_objects, small_tables, soon, square_tables,
     straight_by_all_pairs, straight_table, tables_that_are_not_square, wrong_integers_within, wrong_tables,
 )
-
-
-class SameTest(unittest.TestCase):
-    def same(self, found, wanted):
-        """Alike, and of the same kinds at every depth."""
-        self.assertEqual(kinds(found), kinds(wanted))
 
 
 def sums(one, two, i, j):
