@@ -8,11 +8,9 @@ from straightleast.errors import (
     BadSizes, BadSquare, BadStocks, BadTable, BadTour, BadWay, BadWishes, NotStraight, TooMany,
 )
 
-from tests.samples import Q, spoiled
+from tests.samples import FAR, Q, spoiled
 
 Call = collections.namedtuple("Call", "function names told wanted faults")
-
-FAR = 10 ** 100
 
 TABLE = ((4, 1, 7), (2, 2, 0))
 SQUARE = ((3, 5), (4, 1))

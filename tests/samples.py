@@ -11,6 +11,9 @@ Q = ((0, 1, 4, 9), (1, 0, 1, 4), (4, 1, 0, 1), (9, 4, 1, 0))
 # The greatest integers for which the document promises anything in tables.
 GREAT = 10 ** 30 - 1
 
+# An integer of a hundred digits, which no bound of the document reaches.
+FAR = 10 ** 100
+
 SIZES = [(height, width) for height in range(1, 9) for width in range(1, 9)]
 
 

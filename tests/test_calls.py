@@ -8,14 +8,18 @@ import unittest
 
 from straightleast import tables, texts
 from straightleast.errors import (
-    BadIndexes, BadNumber, BadNumbers, BadSizes, BadSquare, BadTable, LeastError, NotStraight,
+    BadChain, BadIndexes, BadNumber, BadNumbers, BadRows, BadSizes, BadSquare, BadTable, BadText, LeastError, NotStraight,
 )
 
-from tests.calls import CALLS, TABLE
+from tests import calls
+from tests.calls import TABLE
 from tests.samples import (
     Q, deep_objects, doubled, doubled_dict, kinds, lists_in, odd_objects, soon, straight_by_all_pairs,
     tables_that_are_not_square, tables_that_are_not_straight, wrong_tables,
 )
+from tests.strand_calls import STAGE_4
+
+CALLS = calls.CALLS + STAGE_4
 
 # The functions and their parameters, as the interface of the document lists them.
 INTERFACE = {
@@ -51,6 +55,20 @@ INTERFACE = {
     "climbs": """
         climb_cost(table,climb) best_climb(table,count) climb_sums(table) last_steps(table,count)
         best_of_all(table) climbs_at_price(table,price) climb_prices(table)
+    """,
+    "orders": """
+        is_order_for(table,rows,columns) reordered(table,rows,columns) first_order(table) all_orders(table)
+        like_rows(table) like_columns(table) no_order(table)
+    """,
+    "strands": """
+        count_meetings(strands) counts_table(strands) strands_of(counts) joined(strands,other)
+        joined_times(strands,count) is_idle(strands) combed(count,word) word_of(strands) count_words(strands)
+        same_combed(count,word,other) is_below(strands,other) covered(strands) rest_of(strands,other)
+    """,
+    "letters": """
+        shared(text,other) shared_text(text,other) edits(text,other) letter_strands(text,other)
+        shared_window(text,other,start,end) window_table(text,other) windows(text,other,count)
+        below_letters(strands,other,first,second,letters)
     """,
 }
 
@@ -150,7 +168,7 @@ class ErrorsTest(unittest.TestCase):
                 for at in range(len(call.told)):
                     error = call.faults[at][0][0]
                     for thing in wrong:
-                        if is_right_somewhere(call.names[at], thing):
+                        if is_right_somewhere(call, at, thing):
                             continue
                         if error is None:
                             self.assertIs(call.function(*swapped(call, at, thing)), False)
@@ -216,9 +234,14 @@ class ErrorsTest(unittest.TestCase):
                             call.function(*swapped(call, 0, thing))
 
 
-def is_right_somewhere(name, thing):
-    """The odd objects that are a text, or a chain of one table, and so are right for these names."""
-    return name == "text" and isinstance(thing, str) or name == "tables" and thing == (((0,),),)
+def is_right_somewhere(call, at, thing):
+    """The odd objects that are a text, with letters or without, or a chain of one table."""
+    wrong = [error for error, _ in call.faults[at]]
+    if BadRows in wrong:
+        return isinstance(thing, str)
+    if BadText in wrong:
+        return thing == ""
+    return BadChain in wrong and thing == (((0,),),)
 
 
 def first_fault_of_table(thing, wanted):
