@@ -35,16 +35,20 @@ def read_table(text):
 def check_words(row, words, most):
     """Raise BadRows at the first word that is wrong, or is one more than may be."""
     for at, word in enumerate(words):
-        if at == most or not is_written_integer(word):
+        if at == most or not is_written_integer(word, MOST_DIGITS):
             raise BadRows(row, at)
 
 
-def is_written_integer(word):
-    """Whether the word is an integer of at most thirty digits as write_table writes it."""
-    digits = word.removeprefix("-")
+def is_written_integer(word, most):
+    """Whether the word is an integer of at most so many digits as write_table writes it."""
+    return is_written_number(word.removeprefix("-"), most) and word != "-0"
+
+
+def is_written_number(word, most):
+    """Whether the word is one to so many digits, without a 0 ahead but for 0 itself."""
     # The length is asked first: a word may be as long as the whole text.
-    if not 1 <= len(digits) <= MOST_DIGITS:
+    if not 1 <= len(word) <= most:
         return False
-    if not all([sign in DIGITS for sign in digits]):
+    if not all([sign in DIGITS for sign in word]):
         return False
-    return digits[0] != "0" or word == "0"
+    return word[0] != "0" or word == "0"

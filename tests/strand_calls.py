@@ -1,7 +1,7 @@
 """Calls of the functions of orders, strands and letters, as those in calls.py."""
 
 from straightleast import letters, orders, strands
-from straightleast.errors import BadCounts, BadIndex, BadNumber, BadOrder, BadSizes, BadStrands, BadText, BadWord, TooMany
+from straightleast.errors import BadCounts, BadOrder, BadSizes, BadStrands, BadText, BadWord, TooMany
 
 from tests.calls import arg, call, index, number, table
 from tests.samples import FAR

@@ -7,9 +7,12 @@ import itertools
 import unittest
 
 from straightleast import tables, texts
+from straightleast.desk import Desk
 from straightleast.errors import (
-    BadChain, BadIndexes, BadNumber, BadNumbers, BadRows, BadSizes, BadSquare, BadTable, BadText, LeastError, NotStraight,
+    BadChain, BadIndexes, BadNumber, BadNumbers, BadRows, BadSizes, BadSquare, BadTable, BadText, LeastError,
+    NotStraight,
 )
+from straightleast.session import Session
 
 from tests import calls
 from tests.calls import TABLE
@@ -17,9 +20,11 @@ from tests.samples import (
     Q, deep_objects, doubled, doubled_dict, kinds, lists_in, odd_objects, soon, straight_by_all_pairs,
     tables_that_are_not_square, tables_that_are_not_straight, wrong_tables,
 )
+from tests.session_calls import METHODS, STAGE_5
 from tests.strand_calls import STAGE_4
 
-CALLS = calls.CALLS + STAGE_4
+FUNCTIONS = calls.CALLS + STAGE_4 + STAGE_5
+CALLS = FUNCTIONS + METHODS
 
 # The functions and their parameters, as the interface of the document lists them.
 INTERFACE = {
@@ -70,6 +75,24 @@ INTERFACE = {
         shared_window(text,other,start,end) window_table(text,other) windows(text,other,count)
         below_letters(strands,other,first,second,letters)
     """,
+    "joins": """
+        join_cost(table,tree) is_join_tree(table,thing) join_trees(count) grows(table) least_joins(table)
+        splits(table) last_splits(table) best_joins(table) count_best_joins(table)
+    """,
+    "posts": """
+        posts_cost(houses,posts) post_stretches(houses,posts) stretch_cost(houses,first,end)
+        best_posts(houses,count) post_sums(houses) posts_at_price(houses,price) stretch_table(houses)
+    """,
+}
+
+# The methods of the classes of the interface.
+CLASSES = {
+    Session: """
+        __init__(self,table) lift_row(self,row,number) lift_column(self,column,number)
+        change(self,row,column,number) thin(self,rows,columns) add(self,table) turn(self) undo(self) table(self)
+        firsts(self) least(self) pairs(self,count) room(self,row,column) __len__(self) __eq__(self,other) copy(self)
+    """,
+    Desk: "__init__(self) say(self,row) session(self)",
 }
 
 # Few objects of every kind that stand behind an argument that is wrong itself.
@@ -92,11 +115,11 @@ class InterfaceTest(unittest.TestCase):
             for told in text.split():
                 name, names = told.rstrip(")").split("(")
                 listed.add((f"straightleast.{module}", name, tuple(names.split(","))))
-        called = {(call.function.__module__, call.function.__name__, tuple(call.names)) for call in CALLS}
+        called = {(call.function.__module__, call.function.__name__, tuple(call.names)) for call in FUNCTIONS}
         self.assertEqual(called, listed)
 
     def test_each_is_defined_in_its_file_with_the_names_of_the_interface(self):
-        for function, names, *_ in CALLS:
+        for function, names, *_ in FUNCTIONS:
             module = importlib.import_module(function.__module__)
             self.assertIs(getattr(module, function.__name__), function)
             parameters = inspect.signature(function).parameters
@@ -104,6 +127,19 @@ class InterfaceTest(unittest.TestCase):
             for parameter in parameters.values():
                 self.assertIs(parameter.default, inspect.Parameter.empty)
                 self.assertIs(parameter.kind, inspect.Parameter.POSITIONAL_OR_KEYWORD)
+
+    def test_each_method_is_defined_in_its_class_with_the_names_of_the_interface(self):
+        for one, text in CLASSES.items():
+            self.assertEqual(one.__module__, f"straightleast.{one.__name__.lower()}")
+            for told in text.split():
+                name, names = told.rstrip(")").split("(")
+                parameters = inspect.signature(vars(one)[name]).parameters
+                self.assertEqual(list(parameters), names.split(","))
+                for parameter in parameters.values():
+                    self.assertIs(parameter.default, inspect.Parameter.empty)
+                    self.assertIs(parameter.kind, inspect.Parameter.POSITIONAL_OR_KEYWORD)
+            public = [name for name in vars(one) if not name.startswith("_")]
+            self.assertEqual(len(public), len([name for name in text.split() if not name.startswith("__")]))
 
 
 class CallsTest(unittest.TestCase):

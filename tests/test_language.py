@@ -83,6 +83,35 @@ class LanguageTest(unittest.TestCase):
                 if isinstance(node, ast.Attribute):
                     self.assertNotIn(node.attr, ("sort", "format", "mro", "args"), (path, node.lineno))
 
+    def test_no_set_is_stored_and_nothing_is_caught(self):
+        # A class has a method called add, so that no set may be added to.
+        for path, tree in trees():
+            for node in ast.walk(tree):
+                self.assertNotIsInstance(node, ast.Try, path)
+                if isinstance(node, (ast.Assign, ast.AugAssign)):
+                    stored = isinstance(node.value, (ast.Set, ast.SetComp))
+                    call = isinstance(node.value, ast.Call) and isinstance(node.value.func, ast.Name)
+                    stored = stored or call and node.value.func.id in ("set", "frozenset")
+                    self.assertFalse(stored, (path, node.lineno))
+
+    def test_ranges_and_their_kin_are_iterated_at_once(self):
+        kept = ("range", "zip", "enumerate", "reversed", "map", "permutations", "combinations")
+        for path, tree in trees():
+            for node in ast.walk(tree):
+                if isinstance(node, (ast.Assign, ast.Return)) and isinstance(node.value, ast.Call):
+                    called = node.value.func
+                    self.assertFalse(isinstance(called, ast.Name) and called.id in kept, (path, node.lineno))
+
+    def test_attributes_are_no_methods(self):
+        for path, tree in trees():
+            methods = {
+                row.name for node in tree.body if isinstance(node, ast.ClassDef)
+                for row in node.body if isinstance(row, ast.FunctionDef)
+            }
+            for node in ast.walk(tree):
+                if isinstance(node, ast.Attribute) and isinstance(node.ctx, ast.Store):
+                    self.assertNotIn(node.attr, methods, (path, node.lineno))
+
     def test_no_name_stands_for_an_import_or_a_class_too(self):
         for path, tree in trees():
             taken = {name.name for node in ast.walk(tree) if isinstance(node, ast.ImportFrom) for name in node.names}

@@ -175,7 +175,7 @@ class CountsTest(SameTest):
             for strands in ((0,), (1, 0), (2, 0, 1), tuple(range(12))):
                 told = counts(strands)
                 wrong = [told[:-1], told[1:], told + told[-1:], told + (told,), told[::-1], tuple(map(list, told))]
-                wrong += [list(told), list(map(list, told)), (told,), told * 2, strands, tuple(map(tuple, zip(*told[:-1])))]
+                wrong += [list(told), list(map(list, told)), (told,), told * 2, strands, tuple(zip(*told[:-1]))]
                 for at in range(len(told)):
                     row = told[at]
                     for other in (row[:-1], row[1:], row + row[-1:], list(row), (), None, 0, row * 2, (row,)):
